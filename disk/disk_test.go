@@ -28,6 +28,7 @@ type byWords struct {
 	told       []toldByte // all that was told and wasn't lost
 	sure       int        // how many of these are laid down
 	off        bool
+	falls      int
 	fused      bool
 	fuse, keep int
 }
@@ -87,6 +88,7 @@ func (m *byWords) fall(keep int) {
 	}
 	m.told = m.told[:m.sure]
 	m.off = true
+	m.falls++
 }
 
 func (m *byWords) setFuse(n, keep int) { m.fused, m.fuse, m.keep = n >= 0, n, keep }
@@ -185,6 +187,9 @@ func standsOtherwise(b both) string {
 	if b.d.On() == b.m.off {
 		return fmt.Sprintf("On %v", b.d.On())
 	}
+	if got := b.d.Falls(); got != b.m.falls {
+		return fmt.Sprintf("Falls %d, not %d", got, b.m.falls)
+	}
 	return read(0, b.m.size).do(b)
 }
 
@@ -231,8 +236,8 @@ func TestP5_1_NewHasNoFuse(t *testing.T) {
 func TestP5_1_Nil(t *testing.T) {
 	var d *disk.Disk
 	for range 2 {
-		if d.Size() != 0 || d.On() {
-			t.Error("it has bytes, or is on")
+		if d.Size() != 0 || d.On() || d.Falls() != 0 {
+			t.Error("it has bytes, or is on, or fell")
 		}
 		for _, e := range []api.Errno{d.Write(0, nil), d.Write(0, []byte("a")), d.Write(-1, nil), d.Sync()} {
 			if e != api.ErrDown {
