@@ -342,7 +342,7 @@ func TestP9_1_MayOfRows(t *testing.T) {
 			for _, monthDays := range monthDayRows() {
 				for _, days := range dayRows() {
 					n++
-					// All places of each, and of each place some.
+					// Four rows of places beside all others, and the rest beside a part of them.
 					for i, places := range placeRows() {
 						if i < 4 || (n+i)%23 == 0 {
 							isRule(t, api.Rule{Freq: freq, Interval: 1, Until: -1, ByMonth: months, ByMonthDay: monthDays, ByDay: days, BySetPos: places})
